@@ -1,0 +1,1 @@
+"""Floodline: switches that learn where hosts are."""
