@@ -1,6 +1,6 @@
 """Integers, positions, names, lists and pairs among values of any kind."""
 
-from floodline.errors import InvalidPosition
+from floodline.errors import InvalidNumber, InvalidPosition
 
 FARTHEST = 10 ** 30
 MOST_LETTERS = 8
@@ -39,3 +39,9 @@ def check_position(position):
     """Raise InvalidPosition if any value is not a position."""
     if not is_position(position):
         raise InvalidPosition("not an integer from -10 ** 30 to 10 ** 30")
+
+
+def check_number(number, least, most):
+    """Raise InvalidNumber if any value is not an integer within two limits."""
+    if not is_integer(number) or not least <= number <= most:
+        raise InvalidNumber("not an integer within the limits")

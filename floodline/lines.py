@@ -21,12 +21,9 @@ def is_line(value):
 def is_state(line, value):
     """Return whether any value is a state of the line."""
     check_line(line)
-    if not isinstance(value, dict) or len(value) != len(line):
+    if not has_hosts_of(line, value):
         return False
-    for host in line:
-        if host not in value or not is_known_interval(line, host, value[host]):
-            return False
-    return True
+    return all([is_known_interval(line, host, value[host]) for host in line])
 
 
 def is_frames(line, value):
@@ -58,6 +55,13 @@ def lacking(line, state):
 def is_quiet(line, state):
     """Return whether every possible frame would be direct."""
     return len(lacking(line, state)) == 0
+
+
+def has_hosts_of(line, value):
+    """Return whether any value is a dict whose keys are all hosts of the line, and no others."""
+    if not isinstance(value, dict) or len(value) != len(line):
+        return False
+    return all([host in value for host in line])
 
 
 def is_known_interval(line, host, value):

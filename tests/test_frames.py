@@ -10,6 +10,7 @@ from floodline.errors import InvalidFrames, InvalidHost, InvalidLine, InvalidPos
 from floodline.frames import heard_at, kind_of, kinds_of, known_after, reach_of, switches_reached
 from tests.samples import AFTER_F, F, FAR, N, NO_HOSTS, NO_POSITIONS, ODD_VALUES, SILENT
 from tests.samples import cases, host_names, raised, random_frames, reordered, unchanged
+from tests.switches import Switches
 from tests.test_lines import NO_LINES
 
 NO_STATES = ODD_VALUES + [{"a": None}, {**SILENT, "d": None}, {**SILENT, "a": [0, 0]}, {**SILENT, "b": (4, 5)}]
@@ -244,6 +245,16 @@ class SentTest(unittest.TestCase):
             for at in range(min(line.values()) - 2, max(line.values()) + 3):
                 heard = [index for index, reach in enumerate(reaches) if holds(reach, at)]
                 self.assertEqual(heard_at(line, frames, at, start=state), heard)
+
+    def test_switches_that_learn_one_by_one(self):
+        for line, _, frames in cases(150, seed=17):
+            switches = Switches(line)
+            for at, (sender, target) in enumerate(frames):
+                reach = reach_of(line, known_after(line, frames[:at]), sender, target)
+                self.assertEqual(switches.send(sender, target), [to for to in switches.positions if holds(reach, to)])
+            for host, interval in known_after(line, frames).items():
+                knowing = [at for at in switches.positions if interval is not None and holds(interval, at)]
+                self.assertEqual(switches.knowing(host), knowing)
 
     def test_rounds(self):
         for line, state, frames in cases(200, seed=8):

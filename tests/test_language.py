@@ -29,6 +29,8 @@ DECORATORS = {"property", "staticmethod", "classmethod"}
 BARRED_NODES = (ast.AsyncFunctionDef, ast.AsyncFor, ast.AsyncWith, ast.Await, ast.Global, ast.Div, ast.MatMult,
                 ast.MatchMapping, ast.TryStar)
 BARRED_NAMES = set("register mro elements open input law version_info with_traceback add_note".split())
+VIEWS = set("zip enumerate reversed range items keys values".split())
+ITERATE_AT_ONCE = set("list tuple dict sorted sum any all enumerate zip bytes min max".split())
 BARRED_FILES = ("law_", "test", "site", "conftest", "sitecustomize", "usercustomize")
 
 
@@ -178,6 +180,41 @@ def node_findings(name, node, methods):
     return found
 
 
+def called(node):
+    """Return the name of what a call calls, None if the node is no call."""
+    if not isinstance(node, ast.Call):
+        return None
+    return getattr(node.func, "id", getattr(node.func, "attr", None))
+
+
+def is_iterated(node, parent):
+    """Return whether a node stands where it is iterated at once."""
+    if isinstance(parent, (ast.For, ast.comprehension)):
+        return parent.iter is node
+    return called(parent) in ITERATE_AT_ONCE and isinstance(parent.func, ast.Name) and parent.args[0] is node
+
+
+def place_findings(name, node, parent):
+    """Return where a node stands at a place that a rule bars it from."""
+    line = getattr(node, "lineno", 1)
+    found = []
+    if isinstance(node, ast.GeneratorExp):
+        # Some places are allowed, but lists do in all of them, also beside a class with __eq__.
+        found.append(("L7", name, line))
+    if called(node) in VIEWS and not is_iterated(node, parent):
+        if (called(parent), called(node)) not in [("reversed", "range"), ("len", "range")]:
+            found.append(("L23", name, line))
+    if isinstance(node, (ast.Set, ast.SetComp)) or called(node) == "set":
+        stored = isinstance(parent, ast.Assign) and isinstance(parent.targets[0], ast.Name)
+        if not stored and not isinstance(parent, ast.Compare) and called(parent) not in ("sorted", "len"):
+            found.append(("L24", name, line))
+    if isinstance(node, ast.Pow):
+        exponent = getattr(parent, "right", getattr(parent, "value", None))
+        if not isinstance(exponent, ast.Constant) or not 0 <= exponent.value <= 64:
+            found.append(("L27", name, getattr(parent, "lineno", 1)))
+    return found
+
+
 def findings(texts):
     """Return all findings in the files with these texts."""
     trees = {name: ast.parse(text) for name, text in texts.items()}
@@ -188,6 +225,8 @@ def findings(texts):
         found += import_findings(name, trees) + name_findings(name, tree)
         for node in ast.walk(tree):
             found += node_findings(name, node, methods)
+            for part in ast.iter_child_nodes(node):
+                found += place_findings(name, part, node)
             if isinstance(node, ast.ClassDef):
                 found += class_findings(name, node)
             if isinstance(node, ast.FunctionDef):
@@ -230,7 +269,12 @@ class LanguageTest(unittest.TestCase):
                 ("L12", "__X = 1\n"), ("L15", "X = 1\nX = 2\n"), ("L15", "def f(id):\n    pass\n"),
                 ("L16", "from b import y\ny\n"), ("L17", "def register():\n    pass\n"),
                 ("L20", "def f(x):\n    return x is f\n"), ("L25", "def f(x):\n    x.rotate()\n"),
-                ("L27", "X = '%'\n")]:
+                ("L27", "X = '%'\n"), ("L7", "def f(x):\n    return any(k for k in x)\n"),
+                ("L23", "def f(x):\n    return x.items()\n"), ("L23", "def f(x):\n    return len(x.keys())\n"),
+                ("L23", "def f(x):\n    return sorted([1], key=zip(x))\n"),
+                ("L24", "def f(x):\n    return set(x)\n"), ("L24", "def f(x):\n    return [k for k in set(x)]\n"),
+                ("L24", "def f(x):\n    return list({k for k in x})\n"),
+                ("L27", "def f(x):\n    return 2 ** x\n"), ("L27", "X = 2 ** 65\n")]:
             with self.subTest(rule, text=text[:40]):
                 found = findings({"a.py": text, "b.py": "from a import x\nx\n"})
                 self.assertIn(rule, [finding[0] for finding in found if finding[1] == "a.py"])
