@@ -115,6 +115,12 @@ def check_frames(line, frames):
         raise InvalidFrames("not a list of up to 300 tuples of two different hosts")
 
 
+def check_host(line, host):
+    """Raise InvalidHost if any value is not a host of the line."""
+    if not is_host(line, host):
+        raise InvalidHost("not a host of the line")
+
+
 def check_hosts(line, sender, target):
     """Raise InvalidHost if two values are not two different hosts of the line."""
     if not is_host(line, sender):

@@ -26,8 +26,13 @@ def heard_in(line, record, position):
 
 def opening_in(line, record, host, other):
     """Return the opening frame of a host for another one, None if there is none."""
+    return opening_at(line, record, host, line[other])
+
+
+def opening_at(line, record, host, position):
+    """Return the first recorded frame of a host that reaches a position, None if there is none."""
     for index in range(len(record[host])):
-        if contains(reach_in(line, record, (host, index)), line[other]):
+        if contains(reach_in(line, record, (host, index)), position):
             return (host, index)
     return None
 

@@ -31,3 +31,8 @@ class Switches:
     def knowing(self, host):
         """Return the positions of the switches that know a host."""
         return [at for at in self.positions if host in self.learnt[at]]
+
+    def forget(self, host):
+        """Make a host silent again."""
+        for learnt in self.learnt.values():
+            learnt.pop(host, None)

@@ -19,7 +19,15 @@ OverflowError RuntimeError NotImplementedError AttributeError StopIteration NotI
 METHODS = set("""append clear copy count endswith extend find get index insert isalnum isalpha isdigit islower isspace
 isupper items join keys ljust lower lstrip partition pop remove replace reverse rfind rjust rpartition rsplit rstrip
 setdefault split splitlines startswith strip update upper values zfill bit_length sort add discard appendleft popleft
-__init__""".split())
+removeprefix removesuffix __init__""".split())
+DOUBLE = set("""__init__ __eq__ __repr__ __str__ __len__ __enter__ __exit__ __call__ __iter__""".split())
+# Not as an attribute, though some may be methods (L26).
+BARRED_ATTRIBUTES = set("""items keys values pop update append clear extend insert remove reverse setdefault sort args
+encode decode hex fromhex format as_integer_ratio bit_count conjugate from_bytes is_integer to_bytes format_map
+mro""".split())
+# Not in names and strings, but in comments and docstrings; "type" only as a call (L17, L8).
+BARRED_WORDS = set("""type typing typing_extensions enum Enum IntEnum StrEnum Flag IntFlag Generic Protocol ABC ABCMeta
+namedtuple NamedTuple TypedDict TYPE_CHECKING abstractmethod""".split())
 LIBRARY = {"heapq": {"heappush", "heappop", "heapify", "heapreplace", "heappushpop"},
            "math": {"gcd", "lcm", "isqrt", "comb", "perm", "factorial"},
            "itertools": {"product", "combinations", "permutations", "chain", "accumulate", "pairwise", "islice",
@@ -134,11 +142,89 @@ def name_findings(name, tree):
 
 
 def class_findings(name, node):
-    """Return where a class breaks a rule (L5)."""
+    """Return where a class breaks a rule (L5, L28)."""
     found = [("L5", name, node.lineno)] if node.decorator_list or node.keywords else []
     for part in node.body:
         if not isinstance(part, (ast.FunctionDef, ast.Assign, ast.Expr)):
             found.append(("L5", name, part.lineno))
+        if isinstance(part, ast.FunctionDef):
+            found += method_findings(name, part)
+    return found
+
+
+def method_findings(name, node):
+    """Return where a method breaks a rule (L5, L28)."""
+    found = []
+    decorators = [part.id for part in node.decorator_list if isinstance(part, ast.Name)]
+    returns = [part for part in ast.walk(node) if isinstance(part, ast.Return)]
+    if node.name.startswith("__") and node.name not in DOUBLE:
+        found.append(("L5", name, node.lineno))
+    if node.name == "__init__" and returns:
+        found.append(("L28", name, node.lineno))
+    if node.name == "__len__" and not all(called(part.value) == "len" for part in returns):
+        found.append(("L28", name, node.lineno))
+    if node.name in ("__eq__", "__len__") and (changed_in(node) or not isinstance(node.body[-1], ast.Return)):
+        found.append(("L28", name, node.lineno))
+    if "property" in decorators and [part for part in changed_in(node) if not isinstance(part, ast.Name)]:
+        found.append(("L5", name, node.lineno))
+    if "classmethod" in decorators and not all(is_called_or_read(node, part) for part in names_in(node, "cls")):
+        found.append(("L5", name, node.lineno))
+    return found
+
+
+def changed_in(node):
+    """Return the names, attributes and items that a function assigns, those of its comprehensions left out."""
+    targets = []
+    for part in ast.walk(node):
+        if isinstance(part, ast.Assign):
+            targets += part.targets
+        elif isinstance(part, (ast.AugAssign, ast.AnnAssign, ast.For)):
+            targets.append(part.target)
+        elif isinstance(part, ast.Delete):
+            targets += part.targets
+    return targets
+
+
+def names_in(node, word):
+    return [part for part in ast.walk(node) if isinstance(part, ast.Name) and part.id == word]
+
+
+def is_called_or_read(node, name):
+    """Return whether a name is called or an attribute is read off it in a function."""
+    return any(getattr(part, "func", getattr(part, "value", None)) is name for part in ast.walk(node)
+               if isinstance(part, (ast.Call, ast.Attribute)))
+
+
+def attribute_findings(trees):
+    """Return where an attribute has a name that it may not have (L26), or that of a method (L18)."""
+    found = []
+    methods = own_methods(trees)
+    for name, tree in trees.items():
+        once = set(defined_in(tree)) | {alias.name for node in imported_by(tree) for alias in node.names}
+        for node in ast.walk(tree):
+            if isinstance(node, ast.Attribute) and not isinstance(node.ctx, ast.Load):
+                if node.attr in BARRED_ATTRIBUTES:
+                    found.append(("L26", name, node.lineno))
+                if node.attr in methods or not isinstance(node.value, ast.Name) or node.value.id in once:
+                    found.append(("L18", name, node.lineno))
+    return found
+
+
+def docstrings_in(tree):
+    """Return the nodes of the docstrings of a file."""
+    bodies = [node.body for node in ast.walk(tree) if isinstance(node, (ast.Module, ast.ClassDef, ast.FunctionDef))]
+    return [body[0].value for body in bodies if body and isinstance(body[0], ast.Expr)]
+
+
+def word_findings(name, tree):
+    """Return where a word stands that may not occur in a file, docstrings and comments left out (L17)."""
+    found = []
+    free = docstrings_in(tree) + [node.func for node in ast.walk(tree) if called(node) == "type"]
+    for node in ast.walk(tree):
+        words = [getattr(node, field, None) for field in ("id", "attr", "arg", "name", "value")]
+        texts = [word for word in words if isinstance(word, str)]
+        if node not in free and BARRED_WORDS & set(re.findall(r"\w+", " ".join(texts))):
+            found.append(("L17", name, getattr(node, "lineno", 1)))
     return found
 
 
@@ -169,7 +255,8 @@ def node_findings(name, node, methods):
         found.append(("L8", name, line))
     if isinstance(node, ast.Compare):
         for operator, side in zip(node.ops, node.comparators):
-            if isinstance(operator, (ast.Is, ast.IsNot)) and not isinstance(side, ast.Constant):
+            same_class = called(node.left) == called(side) == "type"
+            if isinstance(operator, (ast.Is, ast.IsNot)) and not isinstance(side, ast.Constant) and not same_class:
                 found.append(("L20", name, line))
     if isinstance(node, ast.Call) and isinstance(node.func, ast.Attribute) and node.func.attr not in methods:
         found.append(("L25", name, line))
@@ -208,6 +295,10 @@ def place_findings(name, node, parent):
         stored = isinstance(parent, ast.Assign) and isinstance(parent.targets[0], ast.Name)
         if not stored and not isinstance(parent, ast.Compare) and called(parent) not in ("sorted", "len"):
             found.append(("L24", name, line))
+    if called(node) == "type" and not isinstance(parent, ast.Compare):
+        found.append(("L8", name, line))
+    if called(node) == "super" and not isinstance(parent, ast.Attribute):
+        found.append(("L5", name, line))
     if isinstance(node, ast.Pow):
         exponent = getattr(parent, "right", getattr(parent, "value", None))
         if not isinstance(exponent, ast.Constant) or not 0 <= exponent.value <= 64:
@@ -218,11 +309,11 @@ def place_findings(name, node, parent):
 def findings(texts):
     """Return all findings in the files with these texts."""
     trees = {name: ast.parse(text) for name, text in texts.items()}
-    found = circle_findings(trees)
+    found = circle_findings(trees) + attribute_findings(trees)
     methods = METHODS | own_methods(trees)
     for name, tree in trees.items():
         found += text_findings(name, texts[name]) + module_findings(name, tree)
-        found += import_findings(name, trees) + name_findings(name, tree)
+        found += import_findings(name, trees) + name_findings(name, tree) + word_findings(name, tree)
         for node in ast.walk(tree):
             found += node_findings(name, node, methods)
             for part in ast.iter_child_nodes(node):
@@ -274,7 +365,20 @@ class LanguageTest(unittest.TestCase):
                 ("L23", "def f(x):\n    return sorted([1], key=zip(x))\n"),
                 ("L24", "def f(x):\n    return set(x)\n"), ("L24", "def f(x):\n    return [k for k in set(x)]\n"),
                 ("L24", "def f(x):\n    return list({k for k in x})\n"),
-                ("L27", "def f(x):\n    return 2 ** x\n"), ("L27", "X = 2 ** 65\n")]:
+                ("L27", "def f(x):\n    return 2 ** x\n"), ("L27", "X = 2 ** 65\n"),
+                ("L8", "def f(x):\n    return type(x)\n"), ("L17", "def f(x):\n    return x.enum\n"),
+                ("L17", "X = 'a Flag'\n"), ("L17", "def f(type):\n    pass\n"),
+                ("L20", "def f(x, y):\n    return type(x) is y\n"),
+                ("L18", "X = []\ndef f():\n    X.n = 1\n"), ("L18", "def f(x):\n    x.y.n = 1\n"),
+                ("L26", "def f(x):\n    x.items = 1\n"),
+                ("L18", "class A:\n    def n(self):\n        self.n = 1\n"),
+                ("L5", "class A:\n    def __hash__(self):\n        return 1\n"),
+                ("L5", "class A:\n    @property\n    def n(self):\n        self.k = 1\n        return 2\n"),
+                ("L5", "class A:\n    @classmethod\n    def n(cls, x):\n        return f(cls)\n"),
+                ("L5", "class A:\n    def n(self):\n        return [super()]\n"),
+                ("L28", "class A:\n    def __len__(self):\n        return self.n\n"),
+                ("L28", "class A:\n    def __eq__(self, x):\n        y = x\n        return y == 1\n"),
+                ("L28", "class A:\n    def __init__(self):\n        return None\n")]:
             with self.subTest(rule, text=text[:40]):
                 found = findings({"a.py": text, "b.py": "from a import x\nx\n"})
                 self.assertIn(rule, [finding[0] for finding in found if finding[1] == "a.py"])
