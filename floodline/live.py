@@ -17,7 +17,7 @@ class Network:
         self._line = {host: line[host] for host in sorted(line)}
         self._known = silent_state(self._line)
         self._sent = []
-        # For each change, the number of frames and the state before it.
+        # What undo needs: the number of frames and the state before each change.
         self._changes = []
 
     def send(self, sender, target):

@@ -18,13 +18,14 @@ LINE = "line a@0 b@5 c@9"
 NO_ROWS = [value for value in ODD_VALUES] + [
     b"undo", ["undo"], ("undo",), ["send", "a", "b"], "", " ", "  ", "line", "Line a@0", "LINE a@0", "line\ta@0",
     "line\n", "lin a@0", "linea@0", " line a@0", "line@0", "send", "send a", "send a b c", "send a b ", " send a b",
-    "send  a b", "send a  b", "send  b", "send ", "send  ", "send   ", "SEND a b", "Send a b", "send\ta b", "send\na b", "sends a b",
-    "send,a,b", "kind", "kind a", "kind a b c", "kind a b ", " kind a b", "kind  a b", "kind a  b", "kind  b",
-    "KIND a b", "Kind a b", "undo ", " undo", "undo a", "undo 1", "Undo", "UNDO", "undo\n", "\nundo", "undo\t", "und",
-    "undoo", "known", "known ", "known  ", "known a b", "known a ", " known a", "known  a", "Known a", "KNOWN a",
-    "quiet ", " quiet", "quiet a", "Quiet", "QUIET", "quiet\n", "fewest ", " fewest", "fewest a", "Fewest", "FEWEST", "frames ", " frames",
-    "frames a", "Frames", "FRAMES", "frame", "a>b", "a b", "send a>b", "help", "ok", "silent", "*", "-", "twin",
-    "tried a b", "from_record", "execute undo", "undo undo", "fewest\t", "frames\n", "quiet yes"]
+    "send  a b", "send a  b", "send  b", "send ", "send  ", "send   ", "SEND a b", "Send a b", "send\ta b",
+    "send\na b", "sends a b", "send,a,b", "kind", "kind a", "kind a b c", "kind a b ", " kind a b", "kind  a b",
+    "kind a  b", "kind  b", "KIND a b", "Kind a b", "undo ", " undo", "undo a", "undo 1", "Undo", "UNDO", "undo\n",
+    "\nundo", "undo\t", "und", "undoo", "known", "known ", "known  ", "known a b", "known a ", " known a", "known  a",
+    "Known a", "KNOWN a", "quiet ", " quiet", "quiet a", "Quiet", "QUIET", "quiet\n", "fewest ", " fewest",
+    "fewest a", "Fewest", "FEWEST", "frames ", " frames", "frames a", "Frames", "FRAMES", "frame", "a>b", "a b",
+    "send a>b", "help", "ok", "silent", "*", "-", "twin", "tried a b", "from_record", "execute undo", "undo undo",
+    "fewest\t", "frames\n", "quiet yes"]
 NEED_A_NETWORK = ["send a b", "kind a b", "undo", "known a", "quiet", "fewest", "frames", "send x y", "known x",
                   "kind ? ?", "send a a"]
 

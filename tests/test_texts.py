@@ -216,7 +216,7 @@ class ThereAndBackTest(unittest.TestCase):
 
     def test_frames(self):
         chance = random.Random(102)
-        for many in [0, 1, 2, 3, 10, 39, 100, 299, 300]:
+        for many in range(301):
             line = random_line(chance, chance.randint(2, 40))
             frames = random_frames(chance, line, many)
             text = format_frames(line, frames)
